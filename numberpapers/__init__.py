@@ -1,0 +1,1 @@
+"""Whole numbers answered with papers."""
