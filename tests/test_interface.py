@@ -1,0 +1,129 @@
+"""The names and arguments of the interface, and what holds for every call [1]."""
+
+import copy
+import importlib
+import inspect
+import itertools
+import unittest
+
+TWO = (2, ("tried", 2))
+TEN, OTHER = (10, (1, 2, 3)), (10, (4, 5))
+WHEEL = (17, 2, 4)
+
+# For each function one call, by the names of the interface, in its sequence.
+CALLS = {
+    "digits": {
+        "need_row": {"value": TEN}, "row_of": {"n": 5, "base": 2}, "number_of": {"row": TEN},
+        "compare": {"one": TEN, "other": OTHER}, "shifted": {"row": TEN, "k": 2}, "cut": {"row": TEN, "k": 1},
+        "ending": {"row": TEN, "k": 1},
+    },
+    "sums": {
+        "added": {"one": TEN, "other": OTHER}, "less": {"one": TEN, "other": OTHER}, "carries": {"one": TEN, "other": OTHER},
+        "times_digit": {"row": TEN, "d": 7}, "times": {"one": TEN, "other": OTHER}, "columns": {"one": TEN, "other": OTHER},
+    },
+    "longdiv": {
+        "divided_digit": {"row": TEN, "d": 7}, "divided": {"row": TEN, "divisor": OTHER},
+        "division_sheet": {"row": TEN, "divisor": OTHER},
+        "is_division_sheet": {"row": TEN, "divisor": OTHER, "value": ("sheet", 1, ([],))},
+        "power_rest": {"row": TEN, "k": 5, "modulus": OTHER},
+    },
+    "bases": {
+        "rebased": {"row": TEN, "base": 7}, "mixed": {"n": 5, "bases": (2, 3)}, "of_mixed": {"bases": (2, 3), "value": (1, 2)},
+        "balanced": {"n": -77, "base": 5}, "of_balanced": {"base": 5, "value": (1, -2)},
+        "fraction": {"a": 7, "c": 12, "base": 10},
+    },
+    "products": {
+        "times_three": {"one": TEN, "other": OTHER}, "times_five": {"one": TEN, "other": OTHER}, "three_count": {"m": 5, "n": 9},
+    },
+    "transforms": {
+        "is_wheel": {"value": [17, 2, 4]}, "wheels": {"s": 3}, "transform": {"entries": (1, 2, 3, 4), "wheel": WHEEL},
+        "back": {"entries": (1, 2, 3, 4), "wheel": WHEEL},
+        "wheel_product": {"one": (1, 2, 3, 4), "other": (5, 0, 0, 16), "wheel": WHEEL}, "shift_wheel": {"s": 3, "most": 99},
+        "times_rests": {"one": TEN, "other": OTHER}, "times_shifts": {"one": TEN, "other": OTHER},
+    },
+    "newton": {
+        "inverse": {"row": TEN, "k": 5}, "divided_fast": {"row": TEN, "divisor": OTHER}, "rests_all": {"n": 99, "moduli": (7, 8)},
+    },
+    "roots": {
+        "square_root": {"row": TEN}, "root": {"row": TEN, "k": 3}, "is_power_paper": {"n": 9, "value": ["power", 3, 2]},
+        "power_paper": {"n": 10}, "whole_power": {"n": 81},
+    },
+    "common": {
+        "common_part": {"a": 12, "b": -18}, "combined": {"a": 12, "b": -18}, "quotients": {"a": 12, "b": 18},
+        "of_quotients": {"row": (0, 1, 2)},
+    },
+    "chains": {
+        "chain": {"a": -7, "b": 3}, "convergents": {"row": (3, 7)}, "neighbours": {"a": 22, "b": 7, "most": 5},
+        "nearest": {"a": 22, "b": 7, "most": 5}, "is_neighbours": {"a": 22, "b": 7, "most": 5, "value": [[1, 2], [3, 4]]},
+        "turns": {"a": 3, "b": 7}, "of_turns": {"text": "lr"},
+    },
+    "rests": {
+        "together": {"row": ((1, 2), (2, 3))}, "unit_inverse": {"a": 3, "m": 7}, "line": {"a": 4, "b": 6, "c": 2},
+        "payable": {"a": 4, "b": 6, "c": 22}, "ways": {"a": 4, "b": 6, "c": 22}, "greatest_bill": {"a": 4, "b": 7},
+        "fraction_of": {"r": 5, "m": 101, "t": 3, "u": 4}, "bar_of": {"r": 5, "m": 101, "t": 3, "u": 4},
+        "is_bar": {"r": 5, "m": 101, "t": 3, "u": 4, "value": [[1, 2], (3, [4])]},
+    },
+    "lattices": {
+        "echelon": {"grid": ((2, 4), (3, 5))}, "kernel": {"grid": ((2, 4, 7),)}, "solved": {"grid": ((2, 4), (3, 5)), "sums": (1, 2)},
+        "is_line_paper": {"grid": ((2, 4), (3, 5)), "sums": (1, 2), "value": ("x", [1, 2])},
+    },
+    "powers": {"power": {"a": 2, "e": 10, "n": 1000}},
+    "trees": {"is_tree": {"value": (3, 2, [(2, 1, (2, 1, ()))])}, "tree_of": {"p": 43}, "entries": {"paper": ("tried", 7)}},
+    "primepapers": {
+        "prime_breach": {"n": 7, "value": ("tree", [7, 3, ()])}, "is_prime_paper": {"n": 7, "value": ("tried", 7)},
+        "told_prime": {"n": 101}, "paper_by": {"n": 17, "primes": (TWO,)},
+    },
+    "lucas": {"lucas_at": {"P": 1, "Q": 3, "k": 10, "n": 101}},
+    "soft": {"leftover_of": {"n": 2 * 100003}, "is_soft": {"n": 2 * 100003}, "passes_twelve": {"n": 101}},
+    "witnesses": {"is_witness": {"n": 9, "value": ["divisor", 3]}, "least_strong": {"n": 91}, "strong_count": {"n": 91}},
+    "sieves": {"sieve": {"most": 30}, "next_prime": {"n": 30}},
+}
+
+
+def called():
+    for stem, functions in CALLS.items():
+        module = importlib.import_module("numberpapers." + stem)
+        for name, arguments in functions.items():
+            yield module, name, getattr(module, name), arguments
+
+
+def can_be_changed(value):
+    if isinstance(value, tuple):
+        return any(can_be_changed(entry) for entry in value)
+    return not (value is None or isinstance(value, (int, str)))
+
+
+class Interface(unittest.TestCase):
+    def test_names_and_arguments(self):
+        for module, name, function, arguments in called():
+            self.assertTrue(inspect.isfunction(function))
+            self.assertEqual(function.__module__, module.__name__, name)
+            self.assertEqual(list(inspect.signature(function).parameters), list(arguments), name)
+
+    def test_arguments_by_name_in_any_sequence(self):
+        for module, name, function, arguments in called():
+            wanted = function(*arguments.values())
+            for order in itertools.permutations(arguments.items()):
+                self.assertEqual(function(**dict(order)), wanted, name)
+
+    def test_nothing_that_is_handed_in_is_changed(self):
+        for module, name, function, arguments in called():
+            before = copy.deepcopy(arguments)
+            function(**arguments)
+            self.assertEqual(arguments, before, name)
+
+    def test_equal_calls_return_equal_values(self):
+        for module, name, function, arguments in called():
+            first = function(**arguments)
+            second = function(**copy.deepcopy(arguments))
+            self.assertEqual(repr(first), repr(second), name)
+
+    def test_nothing_that_can_be_changed_is_handed_out(self):
+        for module, name, function, arguments in called():
+            self.assertFalse(can_be_changed(function(**arguments)), name)
+
+    def test_what_tells_whether_returns_true_or_false(self):
+        for module, name, function, arguments in called():
+            if name.startswith("is_") or name == "passes_twelve":
+                self.assertIn(function(**arguments), (True, False))
+                self.assertIs(type(function(**arguments)), bool, name)
