@@ -3,9 +3,9 @@ import unittest
 from numberpapers.errors import NotPaper, NotPrime, TooHard
 from numberpapers.primepapers import is_prime_paper, paper_by, prime_breach, told_prime
 from tests.helpers import ANY, changed, refused, some
-from tests.primes import PRIMES, breach, is_prime, right_witness, told
+from tests.primes import PRIMES, breach, is_prime, leftover, right_witness, told
 from tests.test_soft import ABOVE, BELOW, P, Q, hard_prime, next_prime, soft_prime, towers
-from tests.test_trees import DECEIVER
+from tests.test_trees import DECEIVER, SOFT_DECEIVERS
 
 TWO = ("tried", 2)
 GREAT = 10 ** 39 + 3559
@@ -13,6 +13,12 @@ GREAT = 10 ** 39 + 3559
 
 def tried(*primes):
     return tuple((q, ("tried", q)) for q in primes)
+
+
+def parts(n):
+    """The pairs (q, e) of a number whose leftover is 1 or a prime."""
+    row, left = leftover(n)
+    return row + (((left, 1),) if left > 1 else ())
 
 
 def great_papers():
@@ -196,8 +202,10 @@ class Told(unittest.TestCase):  # [39]
             for _ in range(25):
                 self.check(source.randrange(10 ** digits) | 1)
 
-    def test_a_deceiver_is_too_hard(self):
+    def test_deceivers(self):
         refused(self, TooHard, {"limit": 10 ** 5}, told_prime, DECEIVER)
+        for n in SOFT_DECEIVERS:
+            self.assertEqual(self.check(n), "witness")
 
 
 class PaperBy(unittest.TestCase):  # [41]
@@ -239,6 +247,9 @@ class PaperBy(unittest.TestCase):  # [41]
         # Carmichael numbers and others that deceive small bases.
         for n in (561, 1105, 1729, 2047, 2465, 6601, 8911, 25326001, 3215031751, 252601):
             self.assertEqual(self.check(n, primes), "not prime")
+        for n in SOFT_DECEIVERS:
+            great = tuple((q, told_prime(q)[1]) for q, _ in parts(n - 1) if q > 1000)
+            self.assertEqual(self.check(n, primes + great), "not prime")
 
     def test_great_numbers(self):
         for (q, paper), (n, _) in zip(GREAT_PAPERS[:3], GREAT_PAPERS[1:4]):

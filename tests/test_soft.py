@@ -88,6 +88,14 @@ class Soft(unittest.TestCase):  # [4], [39]
                     self.assertIs(is_soft(n), soft(n), n)
         self.assertEqual(len(seen), 4)
 
+    def test_what_passes_the_twelve_need_not_be_prime(self):
+        # 552727880697763694556181 less 1 is soft, but it is not prime.
+        n = 552727880697763694556181
+        self.assertIs(passes_twelve(n), True)
+        self.assertIs(is_soft(n - 1), True)
+        self.assertIs(is_soft(n), False)
+        self.assertIs(is_soft(6 * n), False)
+
     def test_some(self):
         source = some(167)
         counts = {True: 0, False: 0}

@@ -6,8 +6,13 @@ from tests.helpers import ANY, changed, refused, some
 from tests.primes import is_prime, told, tree_breach
 from tests.test_soft import ABOVE, BELOW, P, Q, hard_prime, next_prime, soft_prime, towers
 
-# Not prime, without a prime up to 10 ** 5, and it passes the twelve; its forerunner is hard.
+# Not prime, without a prime up to 10 ** 5, but they pass the twelve. The forerunner of the first one is hard,
+# those of the others are soft.
 DECEIVER = 318665857834031151167461
+SOFT_DECEIVERS = (
+    552727880697763694556181, 667636712015520329618581, 65189499380249561263545301, 128450234182244570895315061,
+    164983134821180805150066181, 181559597398039788313289221, 807347857650044848649218981,
+)
 
 
 def right_tree(value):
@@ -61,10 +66,21 @@ class Trees(unittest.TestCase):  # [34], [35]
 
     def test_too_hard_comes_ahead_of_not_prime(self):
         refused(self, TooHard, {"limit": 10 ** 5}, tree_of, DECEIVER)
+        for n in SOFT_DECEIVERS:
+            self.assertEqual(told(n), "witness")
+            refused(self, NotPrime, {}, tree_of, n)
         refused(self, NotPrime, {}, tree_of, 10 ** 40)
         refused(self, NotPrime, {}, tree_of, P * Q)
         refused(self, NotPrime, {}, tree_of, ABOVE * BELOW)
         refused(self, NotPrime, {}, tree_of, 99991 * ABOVE)
+
+    def test_a_forerunner_with_a_deceiver_is_hard(self):
+        for n in SOFT_DECEIVERS[:3] + (DECEIVER,):
+            k = 2
+            while not is_prime(k * n + 1):
+                k += 2
+            self.assertEqual(told(k * n + 1), "hard")
+            refused(self, TooHard, {"limit": 10 ** 5}, tree_of, k * n + 1)
 
     def test_wrong_trees(self):
         two = (2, 1, ())
