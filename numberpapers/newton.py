@@ -15,7 +15,7 @@ def inverse(row, k):
 
 
 def inverse_number(d, n, k, base):
-    """A number that, times d, differs from base ** (n + k) by at most 2 * d; d is below base ** n."""
+    """A number that, times d, is at most base ** (n + k), and less by at most 2 * d; d is below base ** n."""
     if k <= FEW:
         return raised(base, n + k) // d
     half = k // 2 + 2
@@ -35,9 +35,7 @@ def divided_fast(row, divisor):
     size = len(divisor[1])
     k = max(1, len(row[1]) - size + 1)
     quotient = n * inverse_number(d, size, k, base) // raised(base, size + k)
-    # The inverse is not exact, so the quotient may be off by a few.
-    while quotient * d > n:
-        quotient -= 1
+    # The inverse is never too great, so the quotient can only be too small, by a few.
     while n - quotient * d >= d:
         quotient += 1
     return (row_of(quotient, base), row_of(n - quotient * d, base))

@@ -12,6 +12,8 @@ class Inverses(unittest.TestCase):  # [20]
         base, n, d, r = one[0], len(one[1]), number(one), number(found)
         self.assertEqual(found, row(r, base))
         self.assertLessEqual(abs(r * d - base ** (n + k)), 2 * d)
+        # divided_fast counts on this.
+        self.assertLessEqual(r * d, base ** (n + k))
 
     def test_short_ones(self):
         source = some(61)

@@ -91,9 +91,12 @@ class PowerPapers(unittest.TestCase):  # [22]
             floors = ("none", tuple((q, max(m for m in range(1, n + 1) if m ** q <= n)) for q in primes))
             first = [paper for paper in powers if is_power_paper(n, paper)]
             self.assertIs(is_power_paper(n, floors), not first, n)
+            below = ("none", tuple((q, max(m for m in range(0, n + 1) if m == 0 or m ** q < n)) for q in primes))
+            self.assertIs(is_power_paper(n, below), not first, n)
+            self.assertIs(is_power_paper(n, ("none", tuple((q, m - 1) for q, m in below[1]))), False)
 
     def test_any_value(self):
-        for n in (2, 3, 4, 64, 81, 100, 10 ** 12):
+        for n in (2, 3, 4, 10, 64, 81, 100, 1000, 1001, 10 ** 12):
             for value in list(ANY) + list(changed(power_paper(n))) + [("power", n, 1), ("power", 1, 2), ("power", -2, 2)]:
                 self.assertIs(is_power_paper(n, value), is_right(n, value), (n, value))
         self.assertIs(is_power_paper(64, ("power", 2, 6)), False)
