@@ -2,11 +2,27 @@ import unittest
 
 from numberpapers.soft import divisor_from, generator_or_witness, is_soft, leftover_of, passes_twelve
 from tests.helpers import some
-from tests.primes import PRIMES, is_prime, leftover, passes, soft
+from tests.primes import PRIMES, TWELVE, is_prime, leftover, passes, soft, strong
 
 # Just above 10 ** 5 and around 10 ** 10.
 P, Q, R = 100003, 100019, 100043
 BELOW, ABOVE = 9999999967, 10000000019
+
+# For each of the twelve primes a number that is not prime, which this one alone shows.
+ONE_WITNESS = (
+    (2, 191001252013530979338181),
+    (3, 260961918608897528198221),
+    (5, 21719806642507488599701),
+    (7, 3696815919648269080981),
+    (11, 13877661561230602556821),
+    (13, 40197444625660898439181),
+    (17, 284888568357724065310621),
+    (19, 2212192807766424234181),
+    (23, 274059473270847383089981),
+    (29, 56455859085554180115181),
+    (31, 1599488979355298155435741),
+    (37, 7395010240794120709381),
+)
 
 
 def next_prime(n, step=1):
@@ -125,6 +141,12 @@ class Twelve(unittest.TestCase):  # [4], [39]
                 n = source.randrange(10 ** digits) | 1
                 self.assertIs(passes_twelve(n), passes(n))
         self.assertIs(passes_twelve(next_prime(10 ** 299)), True)
+
+    def test_each_of_the_twelve_counts(self):
+        self.assertEqual([a for a, _ in ONE_WITNESS], TWELVE)
+        for a, n in ONE_WITNESS:
+            self.assertEqual([b for b in TWELVE if strong(n, b)], [a])
+            self.assertIs(passes_twelve(n), False)
 
     def test_a_number_that_deceives_some_bases_is_found(self):
         # 3215031751 has no strong witness up to 7.
