@@ -73,6 +73,7 @@ class Breaches(unittest.TestCase):  # [36] to [38]
         for paper in (
             ("part", 7, ((2, 1, 3, TWO),)),                            # 2 * 2 is not above 7
             ("part", 7, ((3, 1, 7, ("tried", 3)),)),                   # a is 7
+            ("part", 7, ((3, 1, 9, ("tried", 3)),)),                   # a is 2 + 7
             ("part", 7, ((3, 1, 1, ("tried", 3)),)),                   # a is 1
             ("part", 7, ((3, 1, 6, ("tried", 3)),)),                   # 6 * 6 less 1 is 0
             ("part", 7, ((3, 2, 2, ("tried", 3)),)),                   # 9 does not divide 6
@@ -107,6 +108,17 @@ class Breaches(unittest.TestCase):  # [36] to [38]
             rows = tuple((q, e, ("tried", q)) for q, e in self.powers(n + 1))
             right = [(p, q) for p in range(n) for q in range(n) if self.both(n, ("lucas", n, p, q, rows)) is None]
             self.assertEqual(bool(right), is_prime(n), n)
+            for p, q in right[:3]:
+                self.assertEqual(self.both(n, ("lucas", n, p + n, q, rows)), ())
+                self.assertEqual(self.both(n, ("lucas", n, p, q + n, rows)), ())
+                self.assertEqual(self.both(n, ("lucas", n, p - n, q, rows)), ())
+        # Without the row of 2, Q may be 1.
+        for n in (13, 17, 53):
+            rows = tuple((q, e, ("tried", q)) for q, e in self.powers(n + 1) if q > 2)
+            right = [(p, q) for p in range(n + 3) for q in range(n + 3) if self.both(n, ("lucas", n, p, q, rows)) is None]
+            self.assertIn(1, [q for _, q in right])
+            self.assertIn(n - 1, [p for p, _ in right])
+            self.assertLess(max([p for p, _ in right] + [q for _, q in right]), n)
         self.assertEqual(self.both(3, ("lucas", 3, 1, 2, ((2, 2, TWO),))), ())
         # (F - 1) ** 2 has to be above n, F ** 2 is not enough: 5 * 5 is above 19, 4 * 4 is not.
         right = [(p, q) for p in range(19) for q in range(19) if self.both(19, ("lucas", 19, p, q, ((5, 1, ("tried", 5)),))) is None]

@@ -93,7 +93,7 @@ class Trees(unittest.TestCase):  # [34], [35]
             (7, 3, seven[2][::-1]), (7, 3, ((2, 1, two),)), (7, 3, ((6, 1, two),)), (1, 1, ()), (0, 0, ()), (2, 0, ()), (2, 2, ()),
             (7, 3, ((2, 1, three), (3, 1, three))), (7, 3, ((2, 1, two), (3, 1, two))), (7, 3, ((2, 0, two), (3, 1, three))),
             (19, 2, ((2, 1, two), (3, 1, three), (3, 1, three))), (3, 2, ((2, 1, (2, 1, ((2, 1, two),))),)),
-            (5, 2, ((4, 1, two),)), (10, 3, ((3, 2, three),)), (15, 2, ((2, 1, two), (7, 1, seven))), (-2, 1, ()),
+            (2, 3, ()), (7, 3 + 7, seven[2]), (7, 7, seven[2]), (7, 8, seven[2]), (5, 2, ((4, 1, two),)), (10, 3, ((3, 2, three),)), (15, 2, ((2, 1, two), (7, 1, seven))), (-2, 1, ()),
         ):
             self.assertIs(is_tree(tree), False, tree)
             self.assertIs(is_tree(tree), right_tree(tree))
@@ -115,6 +115,19 @@ class Trees(unittest.TestCase):  # [34], [35]
         found = [g for g in range(2, 60) if right_tree((n, g, ((2, 290, two), (7, 1, seven))))]
         self.assertEqual([g for g in range(2, 60) if is_tree((n, g, ((2, 290, two), (7, 1, seven))))], found)
         self.assertEqual(bool(found), is_prime(n))
+
+    def test_exponents_to_1000(self):
+        # Both numbers are prime; all that 1001 breaks is the bound of e.
+        two, three = (2, 1, ()), (3, 2, ((2, 1, (2, 1, ())),))
+        eleven, thirteen = tree_of(11), tree_of(13)
+        for p, rows, right in (
+            (13 * 2 ** 1000 + 1, ((2, 1000, two), (13, 1, thirteen)), True),
+            (363 * 2 ** 1001 + 1, ((2, 1001, two), (3, 1, three), (11, 2, eleven)), False),
+        ):
+            g = next(g for g in range(2, 99) if all(pow(g, (p - 1) // one[0], p) != 1 for one in rows))
+            self.assertEqual(pow(g, p - 1, p), 1)
+            self.assertIs(is_tree((p, g, rows)), right)
+            self.assertIs(is_tree((p, g + p, rows)), False)
 
     def test_numbers_are_counted(self):
         self.assertEqual(entries(()), 0)
