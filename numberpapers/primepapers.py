@@ -7,6 +7,7 @@ from numberpapers.lucas import lucas_at
 from numberpapers.powers import power, raised
 from numberpapers.sieves import is_tried
 from numberpapers.trees import are_rows, tree_or_witness, tree_rows
+from numberpapers.trials import height_in
 from numberpapers.witnesses import is_strong
 
 MOST_TRIED = 10 ** 6
@@ -66,15 +67,6 @@ def part_rows(n, rows):
     if not is_enough(n, product_of_powers(rows)):
         return None
     return [(q, paper) for q, _, _, paper in rows]
-
-
-def height_in(n, q):
-    """The greatest e such that q ** e divides n, for q from 2 and n from 1 on."""
-    e = 0
-    while n % q == 0:
-        n //= q
-        e += 1
-    return e
 
 
 def product_of_powers(rows):

@@ -61,9 +61,14 @@ def greatest_bill(a, b):
 
 
 def reduced_pairs(r, m, t, u):
-    """The first pair (R, T) of the divisions of m by r with R at most t, behind the one ahead of it."""
+    """What pairs_upto returns, for bounds that are not too wide."""
     if 2 * t * u >= m:
         raise TooWide(m)
+    return pairs_upto(r, m, t)
+
+
+def pairs_upto(r, m, t):
+    """The first pair (R, T) of the divisions of m by r with R at most t, behind the one ahead of it."""
     ahead, pair = (m, 0), (r, 1)
     # In each pair the first number less r times the second one is a multiple of m.
     while pair[0] > t:

@@ -2,6 +2,7 @@
 
 from numberpapers.powers import power
 from numberpapers.roots import whole_power
+from numberpapers.trials import taken_out
 from numberpapers.witnesses import is_strong
 
 # Primes up to this are tried one by one, so what is left below its square is prime.
@@ -10,43 +11,10 @@ SURE = 10 ** 10
 
 TWELVE = (2, 3, 5, 7, 11, 13, 17, 19, 23, 29, 31, 37)
 
-# The remainders by 30 of the numbers that 2, 3 and 5 do not divide.
-APART = (1, 7, 11, 13, 17, 19, 23, 29)
-
-
-def divisor_from(n, low, most):
-    """The least prime up to most that divides n, or 0; n, from 2 on, has none below low."""
-    for prime in (2, 3, 5):
-        if n % prime == 0:
-            return prime if prime <= most else 0
-    for start in range(low - low % 30, most + 1, 30):
-        if start * start > n:
-            return n if n <= most else 0
-        for remainder in APART:
-            d = start + remainder
-            if n % d == 0 and d > 1:
-                return d if d <= most else 0
-    return 0
-
-
-def taken_upto(n, most):
-    """The pairs (p, e) of the primes up to most with their full powers in n, and what is left of n."""
-    row = []
-    left = n
-    p = divisor_from(left, 2, most) if left > 1 else 0
-    while p > 0:
-        e = 0
-        while left % p == 0:
-            left //= p
-            e += 1
-        row.append((p, e))
-        p = divisor_from(left, p, most) if left > 1 else 0
-    return (tuple(row), left)
-
 
 def leftover_of(n):
     """The pairs (p, e) of the primes up to 10 ** 5 with their full powers in n, and the leftover of n."""
-    return taken_upto(n, TRIED)
+    return taken_out(n, TRIED)
 
 
 def passes_twelve(n):
@@ -64,27 +32,38 @@ def witness_of_twelve(n):
 
 def is_soft(n):
     """Whether n is soft."""
-    return soft_parts(n) is not None
+    return soft_links(n) is not None
 
 
-def soft_parts(n):
-    """The pairs (p, e) of all primes that divide n with their full powers, or None if n is not soft."""
-    row, left = leftover_of(n)
-    if left == 1:
-        return row
-    r, k = whole_power(left)
-    if r < SURE or is_soft_prime(r):
-        return row + ((r, k),)
-    return None
+def soft_links(n):
+    """The links (parts, r, g) of a soft n, of r - 1 for its great prime r, and so on, or None if n is not soft.
+
+    parts are the pairs (p, e) of all primes with their full powers, r is the prime among them from 10 ** 10 on, g a
+    number of which r - 1 is the order modulo r; in the last link, which has no such prime, both are 0.
+    """
+    found = []
+    great = SURE
+    while great >= SURE:
+        row, left = leftover_of(n)
+        great, k = whole_power(left) if left > 1 else (0, 0)
+        # Few numbers that are not prime come to the second question.
+        if great >= SURE and not passes_twelve(great):
+            return None
+        found.append((row + ((great, k),) if left > 1 else row, great))
+        n = great - 1
+    return with_generators(found)
 
 
-def is_soft_prime(r):
-    """Whether r is a prime such that r - 1 is soft; r has no prime up to 10 ** 5."""
-    # Few numbers that are not prime come to the second question.
-    if not passes_twelve(r):
-        return False
-    parts = soft_parts(r - 1)
-    return parts is not None and generator_or_witness(r, parts)[0] == "generator"
+def with_generators(found):
+    """The links of soft_links from their pairs (parts, r), or None if some r is not prime."""
+    links = [(found[-1][0], 0, 0)]
+    # Whether r is prime can be told when the primes of r - 1 are sure, so the last one comes first.
+    for parts, great in found[-2::-1]:
+        word, g = generator_or_witness(great, links[-1][0])
+        if word == "strong":
+            return None
+        links.append((parts, great, g))
+    return links[::-1]
 
 
 def generator_or_witness(n, parts):

@@ -3,7 +3,8 @@
 from numberpapers.errors import NotPrime, TooHard
 from numberpapers.kinds import is_between, is_from, is_number, is_tuple
 from numberpapers.powers import power, raised_upto
-from numberpapers.soft import SURE, TRIED, divisor_from, generator_or_witness, soft_parts, witness_of_twelve
+from numberpapers.soft import SURE, TRIED, generator_or_witness, soft_links, witness_of_twelve
+from numberpapers.trials import divisor_from
 
 MOST_POWER = 1000
 
@@ -80,13 +81,23 @@ def tree_or_witness(n):
         a = witness_of_twelve(n)
         if a > 0:
             return ("strong", a)
-    parts = soft_parts(n - 1)
-    if parts is None:
+    links = soft_links(n - 1)
+    if links is None:
         raise TooHard(TRIED)
-    word, a = generator_or_witness(n, parts)
+    word, a = generator_or_witness(n, links[0][0])
     if word == "strong":
         return ("strong", a)
-    return ("tree", (n, a, tuple([(q, e, tree_of(q)) for q, e in parts])))
+    return ("tree", (n, a, linked_rows(links)))
+
+
+def linked_rows(links):
+    """The triples (q, e, tree) of all primes that divide a soft number, by its links."""
+    rows = ()
+    # From the last link on, so that great primes within great primes call nothing within one another.
+    for parts, great, g in reversed(links):
+        tree = (great, g, rows)
+        rows = tuple([(q, e, tree if q == great else tree_of(q)) for q, e in parts])
+    return rows
 
 
 def entries(paper):

@@ -6,6 +6,9 @@ import inspect
 import itertools
 import unittest
 
+from numberpapers.squaresof import Squares
+from tests.judges import KNOWN, P, Q
+
 TWO = (2, ("tried", 2))
 TEN, OTHER = (10, (1, 2, 3)), (10, (4, 5))
 WHEEL = (17, 2, 4)
@@ -77,7 +80,79 @@ CALLS = {
     "soft": {"leftover_of": {"n": 2 * 100003}, "is_soft": {"n": 2 * 100003}, "passes_twelve": {"n": 101}},
     "witnesses": {"is_witness": {"n": 9, "value": ["divisor", 3]}, "least_strong": {"n": 91}, "strong_count": {"n": 91}},
     "sieves": {"sieve": {"most": 30}, "next_prime": {"n": 30}},
+    "families": {"mersenne": {"p": 7}},
+    "trials": {"taken_out": {"n": 360, "most": 3}},
+    "wholeparts": {
+        "whole_breach": {"n": 12, "value": ("whole parts", 12, [(2, 2, ("tried", 2))])}, "whole_parts": {"n": 12 * P * Q, "known": KNOWN},
+        "either": {"n": 91},
+    },
+    "coarse": {"coarse_base": {"numbers": (12, 18)}, "is_base": {"numbers": (12, 18), "value": ([2, 3], ((2, 1), (1, 2)))}},
+    "walks": {
+        "walk_part": {"n": 91, "c": 1, "start": 2, "most": 9}, "walk_shape": {"n": 91, "c": 1, "start": 2},
+        "powers_part": {"n": 91, "a": 2, "most": 9},
+    },
+    "squaresdiff": {"squares_part": {"n": 91, "most": 5}, "chain_part": {"n": 91, "most": 5}},
+    "subsets": {"square_subset": {"rows": (2, 3, 6)}, "subset_breach": {"rows": (2, 3, 6), "value": ("subset", [0, 1, 2])}},
+    "units": {
+        "unit_count": {"n": P * Q, "known": KNOWN}, "unit_exponent": {"n": P * Q, "known": KNOWN}, "units_of": {"n": 30},
+    },
+    "orders": {
+        "order_of": {"a": 2, "n": P * Q, "known": KNOWN}, "order_paper": {"a": 2, "n": P * Q, "known": KNOWN},
+        "order_denial": {"a": 1, "n": 7, "d": P * Q, "known": KNOWN}, "least_root": {"n": 2 * P, "known": KNOWN},
+    },
+    "unitrounds": {
+        "rounds_of": {"n": 4 * P * Q, "known": KNOWN}, "unit_by": {"n": P, "exponents": (-3,), "known": KNOWN},
+        "exponents_in": {"a": -5, "n": 8 * P * Q, "known": KNOWN}, "invariants_of": {"n": P * Q, "known": KNOWN},
+        "ones_count": {"m": 6, "n": P * Q, "known": KNOWN}, "ones_of": {"m": 6, "n": P * Q, "known": KNOWN},
+    },
+    "logs": {
+        "log_of": {"a": 2, "b": 8, "n": P * Q, "known": KNOWN}, "log_paper": {"a": 2, "b": 8, "n": P * Q, "known": KNOWN},
+    },
+    "signs": {
+        "euler": {"a": -3, "p": 7}, "gauss_count": {"a": -3, "p": 7}, "floor_sum": {"a": -3, "p": 7}, "sign": {"a": -3, "n": 35},
+        "sign_sheet": {"a": -3, "n": 35}, "is_sign_sheet": {"a": -3, "n": 35, "value": [(-3, 35, 1)]},
+        "sign_sum": {"b": 1, "c": 2, "p": 11}, "square_neighbours": {"p": 11},
+    },
+    "squareroots": {
+        "least_nonsquare": {"p": 23}, "square_paper": {"a": 9, "n": P * Q, "known": KNOWN},
+        "is_square_paper": {"a": 9, "n": 35, "value": [3]}, "is_square_bar": {"a": 3, "n": 9, "value": ("odd", 3, 2, 1, ["tried", 3])},
+    },
+    "lifting": {
+        "root_rows": {"a": 9, "n": P * Q, "known": KNOWN}, "how_many": {"a": 9, "n": P * Q, "known": KNOWN},
+        "all_roots": {"a": 9, "n": P * Q, "known": KNOWN},
+    },
+    "twosquares": {
+        "is_two_paper": {"n": 25, "value": ["is", (3, 4)]}, "two_paper": {"n": 25 * P * P, "known": KNOWN}, "from_root": {"n": 5, "r": 2},
+        "to_root": {"n": 25, "x": 3, "y": -4}, "all_two": {"parts": ((5, 2), (13, 1))}, "count_two": {"parts": ((5, 2), (13, 1))},
+        "count_proper": {"parts": ((5, 2), (13, 1))},
+    },
+    "foursquares": {
+        "four_squares": {"n": 31}, "is_four": {"n": 31, "value": [1, 1, 2, 5]}, "three_bar": {"n": 60}, "minus_one": {"p": 7},
+        "is_quat_rows": {"p": 7, "value": (2, 3, [])}, "quat_rows": {"p": 7},
+        "four_of_rows": {"value": (1, 1, (((6, 0, 0, 0), (2, 2, 2, 0), (2, -2, -2, 0), (0, 0, 0, 0)),))},
+    },
+    "quaternions": {
+        "quat_breach": {"value": [1, 1, 1, 1]}, "quat_times": {"u": (1, 1, 1, 1), "v": (0, 2, 0, 0)}, "quat_turned": {"u": (1, 1, 1, 1)},
+        "quat_norm": {"u": (1, 1, 1, 1)}, "quat_divided": {"u": (10, 8, 6, 4), "v": (1, 1, 1, -1)},
+        "quat_common": {"u": (10, 8, 6, 4), "v": (1, 1, 1, -1)}, "whole_turn": {"u": (1, 3, 5, 7)},
+    },
+    "plane": {
+        "plane_divided": {"z": (7, 5), "w": (2, 1)}, "plane_common": {"z": (7, 5), "w": (2, 1)},
+        "is_plane_parts": {"z": (7, 5), "value": ((1, 0), [])}, "plane_parts": {"z": (P * Q, 0), "known": KNOWN},
+    },
+    "forms": {
+        "form_breach": {"value": [1, 0, 1]}, "check_form": {"value": (1, 0, 1)}, "discriminant": {"f": (2, 1, 3)},
+        "value_of": {"f": (2, 1, 3), "x": 5, "y": -2}, "turned": {"f": (2, 1, 3), "turn": ((2, 1), (1, 1))},
+    },
+    "reduced": {
+        "is_reduced": {"f": (2, 1, 3)}, "reduced": {"f": (5, 4, 1)}, "is_alike": {"f": (2, 1, 3), "g": (2, -1, 3)},
+        "alike_paper": {"f": (2, 1, 3), "g": (3, 1, 2)}, "is_alike_paper": {"f": (2, 1, 3), "g": (3, 1, 2), "value": ("turn", [1])},
+        "stabilizer": {"f": (1, 1, 1)}, "reduced_forms": {"D": -71}, "class_number": {"D": -71}, "least_values": {"f": (5, 4, 1)},
+    },
 }
+
+# What may be left out.
+DEFAULTS = {"known": ()}
 
 
 def called():
@@ -98,7 +173,10 @@ class Interface(unittest.TestCase):
         for module, name, function, arguments in called():
             self.assertTrue(inspect.isfunction(function))
             self.assertEqual(function.__module__, module.__name__, name)
-            self.assertEqual(list(inspect.signature(function).parameters), list(arguments), name)
+            parameters = inspect.signature(function).parameters
+            self.assertEqual(list(parameters), list(arguments), name)
+            for parameter in parameters.values():
+                self.assertEqual(parameter.default, DEFAULTS.get(parameter.name, parameter.empty), name)
 
     def test_arguments_by_name_in_any_sequence(self):
         for module, name, function, arguments in called():
@@ -127,3 +205,14 @@ class Interface(unittest.TestCase):
             if name.startswith("is_") or name == "passes_twelve":
                 self.assertIn(function(**arguments), (True, False))
                 self.assertIs(type(function(**arguments)), bool, name)
+
+    def test_squares(self):
+        self.assertEqual(Squares.__module__, "numberpapers.squaresof")
+        parameters = inspect.signature(Squares).parameters
+        self.assertEqual([(p.name, p.kind.name) for p in parameters.values()], [("n", "POSITIONAL_OR_KEYWORD"), ("known", "KEYWORD_ONLY")])
+        for name in ("modulus", "size", "__contains__", "__call__", "__eq__"):
+            self.assertIn(name, vars(Squares))
+        known = copy.deepcopy(KNOWN)
+        squares = Squares(known=known, n=P * Q)
+        self.assertFalse(can_be_changed((squares.modulus, squares.size, squares(4), 4 in squares)))
+        self.assertEqual(known, KNOWN)

@@ -181,7 +181,7 @@ class EachFile(unittest.TestCase):
                     self.assertIn(id(node), fine, ast.unparse(node))
 
     def test_methods_and_attributes(self):
-        own = {"row", "base", "number", "plus", "minus", "times", "divided_by", "rest_by", "of"}
+        own = {"row", "base", "number", "plus", "minus", "times", "divided_by", "rest_by", "of", "modulus"}
         for path, text, tree in self.each():
             for node in ast.walk(tree):
                 if isinstance(node, ast.Attribute):

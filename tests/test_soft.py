@@ -1,6 +1,7 @@
 import unittest
 
-from numberpapers.soft import divisor_from, generator_or_witness, is_soft, leftover_of, passes_twelve
+from numberpapers.soft import generator_or_witness, is_soft, leftover_of, passes_twelve
+from numberpapers.trials import divisor_from
 from tests.helpers import some
 from tests.primes import PRIMES, TWELVE, is_prime, leftover, passes, soft, strong
 
