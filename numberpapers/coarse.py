@@ -3,30 +3,15 @@
 from math import gcd
 
 from numberpapers.kinds import same_nest
-from numberpapers.powers import raised
 from numberpapers.trials import height_in
 
 
 def coarse_base(numbers):
     """The coarsest base of numbers, and the exponents of its entries in each of them."""
-    joined = {}
-    for part in parts_apart(numbers):
-        exponents = [height_in(n, part) for n in numbers]
-        common = common_of_all(exponents)
-        key = tuple([e // common for e in exponents])
-        # Parts whose exponents are in one ratio go together, in the power that takes out what these have in common.
-        joined[key] = joined.get(key, 1) * raised(part, common)
-    columns = sorted([(joined[key], key) for key in joined])
-    table = [tuple([key[place] for _, key in columns]) for place in range(len(numbers))]
-    return (tuple([entry for entry, _ in columns]), tuple(table))
-
-
-def common_of_all(entries):
-    """The greatest common part of numbers, 0 for none."""
-    common = 0
-    for entry in entries:
-        common = gcd(common, entry)
-    return common
+    # Common parts and quotients alone tell no two primes apart whose exponents in the numbers are in one ratio, and
+    # leave each entry as small as that ratio lets it be: so what they come to is the coarsest base.
+    base = tuple(sorted(parts_apart(numbers)))
+    return (base, tuple([tuple([height_in(n, entry) for entry in base]) for n in numbers]))
 
 
 def parts_apart(numbers):

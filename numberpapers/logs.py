@@ -22,8 +22,8 @@ def log_paper(a, b, n, known=()):
     bar = two_bar(a, b, parts[0]) or odd_bar(a, b, parts, orders)
     if bar is not None:
         return ("not", bar)
-    for part, rows in zip(parts, orders):
-        if part[0] > 2 and is_steep(rows):
+    for rows in orders:
+        if is_steep(rows):
             raise TooHard(MOST_STEPS)
     shares = []
     for part, rows in zip(parts, orders):
@@ -47,15 +47,13 @@ def two_bar(a, b, part):
 
 
 def character_bar(one, other, k):
-    """A paper ("two", ..) by the exponents of a and b, or None."""
+    """A paper ("two", ..) by the exponents of a and b, or None; b is 1 modulo 4 if a is."""
     (s, t), (u, v) = one, other
     full, half = 1 << (k - 2), 1 << (k - 3)
     twos = common_part(t, full)
-    # All pairs that take a to 0 are made of the first pair and that of the two others which takes it to 0.
-    for x, y in ((0, full // twos), (1, 0), (1, half // twos)):
-        if (x * s * half + y * t) % full == 0 and (x * u * half + y * v) % full != 0:
-            return ("two", k, s, t, u, v, x, y)
-    return None
+    # All pairs that take a to 0 are multiples of this one, or, if s is 0, such and (1, 0), which takes b to 0, too.
+    x, y = (1, half // twos) if s == 1 and t > 0 else (0, full // twos)
+    return ("two", k, s, t, u, v, x, y) if (x * u * half + y * v) % full != 0 else None
 
 
 def odd_bar(a, b, parts, orders):

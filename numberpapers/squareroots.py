@@ -6,7 +6,7 @@ from numberpapers.knownparts import checked_parts
 from numberpapers.powers import power, raised, raised_upto
 from numberpapers.primepapers import is_prime_paper
 from numberpapers.rests import together, unit_inverse
-from numberpapers.signs import euler, is_sign_sheet, sign_told
+from numberpapers.signs import euler, is_sign_sheet, sign, sign_told
 from numberpapers.trees import MOST_POWER
 from numberpapers.trials import height_in
 
@@ -16,7 +16,7 @@ MOST_NONSQUARE = 2000
 def least_nonsquare(p):
     """The least number from 2 on that is no square modulo an odd prime p."""
     for z in range(2, MOST_NONSQUARE + 1):
-        if euler(z, p) == -1:
+        if sign(z, p) == -1:
             return z
     raise TooHard(MOST_NONSQUARE)
 

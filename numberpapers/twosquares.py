@@ -120,11 +120,9 @@ def to_root(n, x, y):
 
 def all_two(parts):
     """All ways (x, y) of a number, told by its primes, with x from 0 and x at most y, ascending."""
-    count = count_two(parts)
-    # All ways go by eights, but for those of four with 0 or with two equal numbers.
-    if is_square_or_twice(parts):
-        count += 4
-    if count > 8 * MOST_WAYS:
+    # Signs and sequence make eight ways of one, but four of one with 0 or with two equal numbers.
+    count = (count_two(parts) // 4 + 1) // 2
+    if count > MOST_WAYS:
         raise TooMany(MOST_WAYS)
     if count == 0:
         return ()
@@ -134,11 +132,6 @@ def all_two(parts):
             factors = power_ways(p, e)
             found = [pair_times(way, factor) for way in found for factor in factors]
     return tuple(sorted(set([ordered(way) for way in found])))
-
-
-def is_square_or_twice(parts):
-    """Whether a number, told by its primes, is a square or twice a square."""
-    return len([p for p, e in parts if p > 2 and e % 2 == 1]) == 0
 
 
 def power_ways(p, e):

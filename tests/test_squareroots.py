@@ -1,3 +1,4 @@
+import math
 import unittest
 
 from numberpapers.errors import NotPaper, TooHard
@@ -42,6 +43,15 @@ class Nonsquares(unittest.TestCase):  # [65]
         for p in [196265095009] + GREAT_PRIMES:
             z = least_nonsquare(p)
             self.assertEqual([pow(x, p // 2, p) == 1 for x in range(2, z + 1)], [True] * (z - 2) + [False])
+
+    def test_around_2000(self):
+        # By how they are made, all numbers below 2003, or all below 1999, are squares modulo these primes.
+        small = [q for q in PRIMES if q <= 2000]
+        p = 365 * 8 * math.prod(small) + 1
+        refused(self, TooHard, {"limit": 2000}, least_nonsquare, p)
+        q = 383 * 8 * math.prod(small[:-1]) + 1
+        self.assertEqual((small[-1], least_nonsquare(q)), (1999, 1999))
+        self.assertTrue(is_prime(p) and is_prime(q))
 
     def test_roots_modulo_primes(self):
         source = some(337)
@@ -153,6 +163,9 @@ class SquarePapers(unittest.TestCase):  # [66], [67]
                 self.assertIs(is_square_bar(a, n, ("sign", sheet)), wanted)
                 if wanted:
                     self.assertFalse(any((x * x - a) % n == 0 for x in range(n)))
+        # No sheet is one for an even n.
+        for a, n, sheet in ((2, 4, ((2, 4, 1), (1, 4, -1))), (3, 8, ((3, 8, 1), (8, 3, 1), (4, 3, -1), (2, 3, 1), (1, 3, -1))), (6, 10, ((6, 10, 1), (3, 10, -1), (10, 3, -1), (1, 3, -1)))):
+            self.assertIs(is_square_bar(a, n, ("sign", sheet)), False)
         p = 10 ** 40 - 17
         bars = [a for a in range(2, 30) if is_square_bar(a, p, ("sign", sign_sheet(a, p)))]
         self.assertEqual(bars, [a for a in range(2, 30) if pow(a, p // 2, p) != 1])

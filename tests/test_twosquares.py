@@ -79,7 +79,8 @@ class TwoPapers(unittest.TestCase):  # [71]
     def test_by_hand(self):
         three = ("tried", 3)
         for n, value, right in (
-            (25, ("is", (0, 5)), True), (25, ("is", (3, 4)), True), (25, ("is", (4, 3)), False), (25, ("is", (-3, 4)), False), (25, ("is", (-3, -4)), False),
+            (25, ("is", (0, 5)), True), (25, ("is", (3, 4)), True), (25, ("is", (4, 3)), False), (25, ("is", (-3, 4)), False), (25, ("is", (-3, -4)), False), (1, ("is", (-1, 0)), False), (2, ("is", (-1, 1)), False), (2, ("is", (-1, -1)), False),
+           
             (0, ("is", (0, 0)), True), (0, ("not", (3, 1, three)), False), (3, ("not", (3, 1, three)), True), (9, ("not", (3, 1, three)), False),
             (9, ("not", (3, 2, three)), False), (27, ("not", (3, 3, three)), True), (27, ("not", (3, 1, three)), False), (15, ("not", (15, 1, ("tried", 15))), False),
             (6, ("not", (3, 1, three)), True), (5, ("not", (5, 1, ("tried", 5))), False), (6, ("not", (2, 1, ("tried", 2))), False), (3, ("not", (3, True, three)), False),
