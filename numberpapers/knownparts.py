@@ -16,7 +16,7 @@ def check_known(known):
 
 
 def told_parts(n, known):
-    """The triples (p, e, paper) of all primes that divide n with their full powers and papers."""
+    """The triples (p, e, paper) of all primes that divide n with their full powers and papers; TooHard if not told."""
     row, left = leftover_of(n)
     rows = [(p, e, ("tried", p)) for p, e in row]
     for q, paper in known:
