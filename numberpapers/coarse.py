@@ -18,12 +18,19 @@ def parts_apart(numbers):
     """Numbers from 2 on, any two without a common part, of whose powers all the numbers are products."""
     parts = []
     for n in numbers:
-        refined = []
-        for part in parts:
-            n, shared = without_primes_of(n, part)
-            refined.extend(pair_apart(part, shared))
-        parts = refined if n == 1 else refined + [n]
+        parts = refined_by(n, parts)
     return parts
+
+
+def refined_by(n, parts):
+    """The same for one number more, by what the numbers ahead of it come to."""
+    refined = []
+    for part in parts:
+        n, shared = without_primes_of(n, part)
+        refined.extend(pair_apart(part, shared))
+    if n > 1:
+        refined.append(n)
+    return refined
 
 
 def without_primes_of(n, part):

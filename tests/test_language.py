@@ -88,7 +88,7 @@ class EachFile(unittest.TestCase):
                 if isinstance(node, ast.Assign):
                     self.assertEqual(len(node.targets), 1)
                     self.assertIsInstance(node.targets[0], ast.Name)
-                    self.assertFalse([n for n in ast.walk(node.value) if isinstance(n, (ast.Call, ast.List, ast.Dict))])
+                    self.assertFalse([n for n in ast.walk(node.value) if isinstance(n, (ast.Call, ast.List))])
             for node in ast.walk(tree):
                 if isinstance(node, (ast.FunctionDef, ast.ClassDef)):
                     if path.name != "errors.py" and not node.name.startswith("__"):
@@ -214,16 +214,65 @@ class EachFile(unittest.TestCase):
         return [node.value for node in constants if isinstance(node.value, str) and node not in docs]
 
     def test_loops_do_not_change_what_they_go_over(self):
-        changing = {"append", "extend", "insert", "pop", "remove", "clear", "reverse", "update"}
         for path, text, tree in self.each():
-            for loop in ast.walk(tree):
-                if not isinstance(loop, ast.For):
-                    continue
-                over = {n.id for n in ast.walk(loop.iter) if isinstance(n, ast.Name)}
-                for node in [n for row in loop.body for n in ast.walk(row)]:
-                    if isinstance(node, ast.Call) and isinstance(node.func, ast.Attribute):
-                        changed = node.func.attr in changing and ast.unparse(node.func.value) in over
-                        self.assertFalse(changed, ast.unparse(node))
+            for function in functions_in(tree):
+                self.assertEqual(changed_in_loops(function), [], path.name)
+
+    def test_that_changes_behind_other_names_are_seen(self):
+        for text, count in (
+            ("for x in xs:\n  xs.append(x)", 1), ("for x in xs:\n  ys.append(x)", 0), ("ys = xs\nfor x in xs:\n  ys.append(x)", 1),
+            ("ys = xs if a else b\nfor x in ys:\n  xs.append(x)", 1), ("for a in b:\n  ys = []\n  for x in xs:\n    ys.append(x)\n  xs = ys if a else ys + [a]", 1),
+            ("ys = xs or b\nfor x in ys:\n  b.pop()", 1), ("ys, b = xs, a\nfor x in xs:\n  ys.pop()", 1), ("ys = list(xs)\nfor x in xs:\n  ys.pop()", 0),
+            ("for x in list(xs):\n  xs.pop()", 0), ("for k, x in enumerate(xs):\n  xs[k] = x", 1), ("for x in xs:\n  xs[0] += x", 1), ("ys = [xs for k in xs]\nfor x in ys:\n  xs.pop()", 0),
+        ):
+            tree = ast.parse("def told(xs, a, b):\n  " + text.replace("\n", "\n  "))
+            self.assertEqual(len(changed_in_loops(tree.body[0])) > 0, count > 0, text)
+
+
+def names_behind(node):
+    """The names that an expression may be the very value of."""
+    if isinstance(node, ast.Name):
+        return [node.id]
+    if isinstance(node, ast.IfExp):
+        return names_behind(node.body) + names_behind(node.orelse)
+    if isinstance(node, ast.BoolOp):
+        return [name for value in node.values for name in names_behind(value)]
+    return []
+
+
+def same_values(function):
+    """For each name of a function all names that may stand for the same value."""
+    joined = {}
+    for node in ast.walk(function):
+        if not isinstance(node, ast.Assign):
+            continue
+        for target in node.targets:
+            pairs = [(target, node.value)]
+            if isinstance(target, ast.Tuple) and isinstance(node.value, ast.Tuple):
+                pairs = list(zip(target.elts, node.value.elts))
+            for one, value in pairs:
+                for name in names_behind(value) if isinstance(one, ast.Name) else []:
+                    lot = joined.get(one.id, {one.id}) | joined.get(name, {name})
+                    for each in lot:
+                        joined[each] = lot
+    return joined
+
+
+def changed_in_loops(function):
+    """What stands in loops of a function and changes what they go over, by any name."""
+    changing = {"append", "extend", "insert", "pop", "remove", "clear", "reverse", "update", "setdefault", "sort"}
+    joined, found = same_values(function), []
+    for loop in [node for node in ast.walk(function) if isinstance(node, ast.For)]:
+        over = loop.iter
+        while isinstance(over, ast.Call) and isinstance(over.func, ast.Name) and over.func.id in ("enumerate", "reversed", "zip") and over.args:
+            over = over.args[0] if len(over.args) == 1 else ast.BoolOp(ast.Or(), over.args)
+        names = {each for name in names_behind(over) for each in joined.get(name, {name})}
+        for node in [n for row in loop.body for n in ast.walk(row)]:
+            if isinstance(node, ast.Call) and isinstance(node.func, ast.Attribute) and node.func.attr in changing:
+                found += [ast.unparse(node)] if ast.unparse(node.func.value) in names else []
+            if isinstance(node, ast.Subscript) and isinstance(node.ctx, (ast.Store, ast.Del)):
+                found += [ast.unparse(node)] if ast.unparse(node.value) in names else []
+    return found
 
 
 if __name__ == "__main__":
