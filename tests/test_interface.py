@@ -149,6 +149,35 @@ CALLS = {
         "alike_paper": {"f": (2, 1, 3), "g": (3, 1, 2)}, "is_alike_paper": {"f": (2, 1, 3), "g": (3, 1, 2), "value": ("turn", [1])},
         "stabilizer": {"f": (1, 1, 1)}, "reduced_forms": {"D": -71}, "class_number": {"D": -71}, "least_values": {"f": (5, 4, 1)},
     },
+    "told": {
+        "told_small": {"f": (2, 1, 3), "n": 24}, "middle_roots": {"D": -23, "n": 24}, "told": {"f": (1, 0, 5), "n": P * Q, "known": KNOWN},
+        "is_told_paper": {"f": (1, 0, 5), "n": 21, "value": ("pair", [1], 2)}, "proper_counts": {"D": -23, "n": 24},
+    },
+    "classes": {
+        "lattice_of": {"f": (2, 1, 3)}, "lattice_form": {"D": -23, "lattice": (1, 2, 0)},
+        "lattice_times": {"D": -23, "one": (1, 2, 0), "other": (1, 3, 0)}, "composed": {"f": (2, 1, 3), "g": (3, 1, 2)}, "one_of": {"D": -23},
+        "back_of": {"f": (2, 1, 3)}, "power_of": {"f": (2, 1, 3), "k": 5}, "class_order": {"f": (2, 1, 3)}, "classes": {"D": -23},
+    },
+    "rivers": {
+        "river_breach": {"value": [1, 0, -2]}, "check_river": {"value": (1, 0, -2)}, "river_step": {"f": (1, 0, -2)}, "river_back": {"f": (1, 0, -2)},
+        "river": {"f": (1, 0, -2)}, "to_river": {"f": (7, 20, 14)}, "alike_above": {"f": (1, 0, -3), "g": (3, 0, -1)},
+        "is_alike_above": {"f": (1, 0, -3), "g": (3, 0, -1), "value": ["turn", ((1, 0), (0, 1))]}, "rings": {"D": 12},
+    },
+    "surds": {"surd_chain": {"N": 7}, "surd_row": {"P": 3, "Q": -4, "N": 7}},
+    "pell": {
+        "pell": {"N": 13}, "pell_all": {"N": 13, "count": 3}, "pell_below": {"N": 13}, "pell_value": {"N": 13, "m": -3},
+        "is_least_pell": {"N": 3, "value": [2, 1], "letters": "rlr"}, "is_no_pell_below": {"N": 3, "letters": "rlr"},
+    },
+    "toldabove": {"told_above": {"f": (1, 0, -7), "n": -3}, "is_told_above": {"f": (1, 0, -7), "n": -3, "value": ("pair", 2, [1])}},
+    "divisors": {
+        "divisors": {"n": P * Q, "known": KNOWN}, "divisor_sum": {"n": P * Q, "k": 3, "known": KNOWN}, "moebius": {"n": P * Q, "known": KNOWN},
+    },
+    "rowsof": {
+        "values_row": {"word": "sum", "size": 12}, "product_of": {"f": (1, 2, 3), "g": (4, 5, 6)}, "entrywise": {"f": (1, 2, 3), "g": (4, 5, 6)},
+        "turned_back": {"f": (1, 2, 3)}, "splits": {"f": (1, 2, 3)}, "splits_always": {"f": (1, 2, 3)}, "row_by_powers": {"f": (1, 2, 3, 4, 5, 7)},
+    },
+    "perfect": {"perfect_paper": {"n": P * Q, "known": KNOWN}, "even_perfect": {"most": 500}},
+    "circles": {"circle_row": {"n": 12}, "circle_value": {"n": 12, "x": -3}, "prime_above": {"n": 12, "bound": 40}},
 }
 
 # What may be left out.
@@ -202,7 +231,7 @@ class Interface(unittest.TestCase):
 
     def test_what_tells_whether_returns_true_or_false(self):
         for module, name, function, arguments in called():
-            if name.startswith("is_") or name == "passes_twelve":
+            if name.startswith("is_") or name in ("passes_twelve", "splits", "splits_always"):
                 self.assertIn(function(**arguments), (True, False))
                 self.assertIs(type(function(**arguments)), bool, name)
 
