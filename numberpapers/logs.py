@@ -17,7 +17,11 @@ def log_of(a, b, n, known=()):
 
 def log_paper(a, b, n, known=()):
     """("is", paper) or ("not", paper), by whether b is a power of a."""
-    parts = unit_parts(n, known, (a, b))
+    return log_by(a, b, unit_parts(n, known, (a, b)))
+
+
+def log_by(a, b, parts):
+    """The same for the prime parts of n."""
     orders = part_orders(a, parts)
     bar = two_bar(a, b, parts[0]) or odd_bar(a, b, parts, orders)
     if bar is not None:

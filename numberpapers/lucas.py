@@ -2,7 +2,7 @@
 
 
 def lucas_at(P, Q, k, n):
-    """The k-th entries (U, V) of the Lucas rows of P and Q modulo an odd n."""
+    """The k-th entries (U, V) of the Lucas rows of P and Q modulo n."""
     u, after = 0, 1 % n
     # u and after are neighbours in the row U; each step doubles their index and may add 1 to it.
     for place in reversed(range(k.bit_length())):

@@ -21,12 +21,19 @@ def order_paper(a, n, known=()):
 def order_denial(a, n, d, known=()):
     """A paper that d is not the order of a, or None if it is."""
     check_known(known)
+    word, paper = order_by(a, n, d, known)
+    return paper if word == "not" else None
+
+
+def order_by(a, n, d, known):
+    """("is", paper) or ("not", paper), by whether d is the order of a."""
     if power(a, d, n) != 1:
-        return ("far",)
-    for q, _, _ in told_parts(d, known):
+        return ("not", ("far",))
+    rows = told_parts(d, known)
+    for q, _, _ in rows:
         if power(a, d // q, n) == 1:
-            return ("short", q)
-    return None
+            return ("not", ("short", q))
+    return ("is", rows)
 
 
 def least_root(n, known=()):

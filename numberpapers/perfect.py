@@ -2,13 +2,17 @@
 
 from numberpapers.divisors import sum_by
 from numberpapers.families import mersenne
-from numberpapers.wholeparts import whole_parts
+from numberpapers.knownparts import checked_parts
 
 
 def perfect_paper(n, known=()):
     """("is", paper) or ("not", paper), by whether the sum of the divisors of n is 2 * n."""
-    whole = whole_parts(n, known)
-    return ("is" if sum_by(whole[2], 1) == 2 * n else "not", ("sum", whole))
+    return perfect_by(n, checked_parts(n, known))
+
+
+def perfect_by(n, parts):
+    """The same for the prime parts of n."""
+    return ("is" if sum_by(parts, 1) == 2 * n else "not", ("sum", ("whole parts", n, parts)))
 
 
 def euclid_number(p):

@@ -7,16 +7,24 @@ from numberpapers.kinds import are_numbers, is_tuple
 
 def together(row):
     """(x, M), such that the integers with all the rests are those that leave x modulo M."""
-    for i, (rest, modulus) in enumerate(row):
-        for j in range(i + 1, len(row)):
-            if (rest - row[j][0]) % common_part(modulus, row[j][1]) != 0:
-                raise Clash(i, j)
+    clash = first_clash(row)
+    if clash is not None:
+        raise Clash(clash[0], clash[1])
     x, product = 0, 1
     for rest, modulus in row:
         g, factor, _ = combined(product, modulus)
         x += product * ((rest - x) // g * factor % (modulus // g))
         product *= modulus // g
     return (x, product)
+
+
+def first_clash(row):
+    """The least pair of indexes whose two pairs (r, m) no integer fits together, or None."""
+    for i, (rest, modulus) in enumerate(row):
+        for j in range(i + 1, len(row)):
+            if (rest - row[j][0]) % common_part(modulus, row[j][1]) != 0:
+                return (i, j)
+    return None
 
 
 def unit_inverse(a, m):

@@ -23,7 +23,11 @@ def least_nonsquare(p):
 
 def square_paper(a, n, known=()):
     """("is", paper) or ("not", paper), by whether a is a square modulo n."""
-    parts = checked_parts(n, known)
+    return square_by(a, checked_parts(n, known))
+
+
+def square_by(a, parts):
+    """The same for the prime parts of n."""
     bar = bar_by(a, parts)
     if bar is not None:
         return ("not", bar)

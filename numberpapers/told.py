@@ -65,7 +65,11 @@ def told(f, n, known=()):
     """("pair", x, y), ("no root", p, paper) or ("unlike", row, roots), by whether f tells n properly."""
     check_known(known)
     check_apart(f, n)
-    parts = told_parts(n, known)
+    return told_by(f, n, told_parts(n, known))
+
+
+def told_by(f, n, parts):
+    """The same for the prime parts of n."""
     D = discriminant(f)
     for p, _, paper in parts:
         if euler(D, p) == -1:

@@ -42,9 +42,11 @@ def is_bar_told(n, value):
 def two_paper(n, known=()):
     """A two paper of n."""
     check_known(known)
-    if n == 0:
-        return ("is", (0, 0))
-    parts = told_parts(n, known)
+    return ("is", (0, 0)) if n == 0 else two_by(told_parts(n, known))
+
+
+def two_by(parts):
+    """A two paper of a number from 1 on by its prime parts with papers."""
     for p, e, paper in parts:
         if p % 4 == 3 and e % 2 == 1:
             return ("not", (p, e, paper))

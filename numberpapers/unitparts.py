@@ -13,6 +13,11 @@ def unit_parts(n, known, units):
     for a in units:
         if common_part(a, n) > 1:
             raise NotUnit()
+    return told_unit_parts(n, known)
+
+
+def told_unit_parts(n, known):
+    """The same where nothing is to be refused but numbers that are not told."""
     return tuple([(p, k, paper, told_parts(p - 1, known)) for p, k, paper in told_parts(n, known)])
 
 
@@ -40,18 +45,36 @@ def joined_rows(lots):
     return tuple([found[q] for q in sorted(found)])
 
 
-def order_rows(a, m, rows):
-    """The rows of the order of a unit a of m; rows those of an exponent with which it comes to 1."""
+def product_rows(lots):
+    """The rows (q, e, paper) of the product of the numbers that several lots of rows tell."""
+    found = {}
+    for rows in lots:
+        for q, e, paper in rows:
+            found[q] = (q, found[q][1] + e, paper) if q in found else (q, e, paper)
+    return tuple([found[q] for q in sorted(found)])
+
+
+def least_rows(rows, comes):
+    """The rows of the least d that comes; rows tell a number that does, as all multiples of the least one do."""
     d = product_of_powers(rows)
     found = []
     for q, e, paper in rows:
         left = e
-        while left > 0 and power(a, d // q, m) == 1:
+        while left > 0 and comes(d // q):
             d //= q
             left -= 1
         if left > 0:
             found.append((q, left, paper))
     return tuple(found)
+
+
+def order_rows(a, m, rows):
+    """The rows of the order of a unit a of m; rows those of an exponent with which it comes to 1."""
+    def comes(d):
+        """Whether the d-th power of a is 1."""
+        return power(a, d, m) == 1
+
+    return least_rows(rows, comes)
 
 
 def part_orders(a, parts):

@@ -6,6 +6,8 @@ import inspect
 import itertools
 import unittest
 
+from numberpapers.desk import Desk
+from numberpapers.sayings import KINDS
 from numberpapers.squaresof import Squares
 from tests.judges import KNOWN, P, Q
 
@@ -178,6 +180,33 @@ CALLS = {
     },
     "perfect": {"perfect_paper": {"n": P * Q, "known": KNOWN}, "even_perfect": {"most": 500}},
     "circles": {"circle_row": {"n": 12}, "circle_value": {"n": 12, "x": -3}, "prime_above": {"n": 12, "bound": 40}},
+    "fibonacci": {
+        "fibonacci_rest": {"k": 10, "m": 7}, "fibonacci_round": {"m": 2 * P, "known": KNOWN}, "fibonacci_rank": {"m": 2 * P, "known": KNOWN},
+        "round_paper": {"m": 2 * P, "known": KNOWN}, "round_denial": {"m": 1, "r": P * Q, "known": KNOWN},
+    },
+    "heights": {
+        "height": {"p": 3, "n": -54}, "factorial_height": {"p": 3, "n": 100}, "choose_height": {"p": 3, "n": 100, "m": 30}, "carries_at": {"p": 3, "a": 30, "b": 70},
+        "factorial_figure": {"p": 3, "n": 100}, "choose_rest": {"p": 3, "n": 100, "m": 30}, "difference_height": {"p": 3, "a": 10, "b": -5, "n": 12},
+    },
+    "rootlots": {
+        "root_lots": {"f": (-1, 0, 1), "p": 2, "k": 5}, "root_count": {"f": (-1, 0, 1), "p": 2, "k": 5}, "is_endless_paper": {"value": ("root", [-2, 0, 1], 7, 3, 0)},
+        "endless_root": {"f": (-2, 0, 1), "p": 7}, "root_figures": {"paper": ("root", (-2, 0, 1), 7, 3, 0), "count": 5}, "endless_roots": {"f": (-2, 0, 1), "p": 7},
+    },
+    "endless": {"endless_row": {"p": 5, "a": 1, "b": 3, "most": 7}, "endless_fraction": {"p": 5, "row": ((2,), (3, 1))}},
+    "nearunits": {"log_rest": {"p": 5, "k": 3, "a": 6}, "exponent_of": {"p": 5, "k": 3, "a": 11}, "split_unit": {"p": 5, "k": 3, "a": 7}},
+    "sayings": {
+        "claim_breach": {"value": ["prime", 7]}, "saying_breach": {"value": ("is", ["prime", 7])}, "opposite": {"saying": ("is", ("prime", 7))}, "size_of": {"paper": ("tried", 7)},
+    },
+    "judging": {"judge": {"saying": ("is", ("prime", 7)), "paper": ["tried", 7]}},
+    "answers": {"answer": {"claim": ("perfect", P * Q), "known": KNOWN}},
+    "sheets": {
+        "answered": {"claims": (("perfect", P * Q), ("prime", 7)), "known": KNOWN}, "sheet_breach": {"value": [(("is", ("prime", 7)), ("tried", 7))]},
+        "check_sheet": {"value": ((("is", ("prime", 7)), ("tried", 7)),)},
+    },
+    "stores": {
+        "store_breach": {"value": [TWO]}, "store_of": {"papers": (TWO, (3, ("tree", (3, 2, ((2, 1, (2, 1, ())),)))))}, "opened": {"store": (TWO,), "p": 2},
+        "joined": {"one": (TWO,), "other": ((3, ("tried", 3)),)}, "pruned": {"store": (TWO, (3, ("tried", 3))), "primes": (3,)},
+    },
 }
 
 # What may be left out.
@@ -231,7 +260,7 @@ class Interface(unittest.TestCase):
 
     def test_what_tells_whether_returns_true_or_false(self):
         for module, name, function, arguments in called():
-            if name.startswith("is_") or name in ("passes_twelve", "splits", "splits_always"):
+            if name.startswith("is_") or name in ("passes_twelve", "splits", "splits_always", "judge"):
                 self.assertIn(function(**arguments), (True, False))
                 self.assertIs(type(function(**arguments)), bool, name)
 
@@ -245,3 +274,17 @@ class Interface(unittest.TestCase):
         squares = Squares(known=known, n=P * Q)
         self.assertFalse(can_be_changed((squares.modulus, squares.size, squares(4), 4 in squares)))
         self.assertEqual(known, KNOWN)
+
+    def test_desk(self):
+        self.assertEqual(Desk.__module__, "numberpapers.desk")
+        parameters = inspect.signature(Desk).parameters
+        self.assertEqual([(p.name, p.kind.name, p.default) for p in parameters.values()], [("store", "POSITIONAL_OR_KEYWORD", ()), ("most", "KEYWORD_ONLY", 50)])
+        for name in ("store", "sheet", "deeds", "do", "undo", "again", "twin"):
+            self.assertIn(name, vars(Desk))
+        for name, names in (("do", ["self", "deed"]), ("undo", ["self"]), ("again", ["self"]), ("twin", ["self"])):
+            self.assertEqual(list(inspect.signature(getattr(Desk, name)).parameters), names)
+        self.assertTrue(all(isinstance(vars(Desk)[name], property) for name in ("store", "sheet", "deeds")))
+
+    def test_kinds(self):
+        self.assertFalse(can_be_changed(KINDS))
+        self.assertEqual(len(KINDS), 16)
