@@ -4,7 +4,7 @@ from numberpapers.answers import answer_by
 from numberpapers.errors import NotDeed, NotDone, NotPaper, NotUndone, TooMany
 from numberpapers.judging import judge
 from numberpapers.kinds import is_between, is_number, is_told
-from numberpapers.stores import MOST_PRIME, check_store, joined, opened_pairs, pruned, store_of
+from numberpapers.stores import MOST_PRIME, check_store, opened_pairs, store_of, surely_joined, surely_pruned
 
 
 class Desk:
@@ -113,5 +113,5 @@ def behind(deed, store, sheet):
         _, p, paper = deed
         if not is_between(p, 2, MOST_PRIME):
             raise NotPaper(0)
-        return (joined(store, store_of(((p, paper),))), sheet)
-    return (pruned(store, deed[1]), sheet)
+        return (surely_joined(store, store_of(((p, paper),))), sheet)
+    return (surely_pruned(store, deed[1]), sheet)

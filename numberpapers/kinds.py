@@ -49,3 +49,16 @@ def same_nest(value, wanted):
         if not same_nest(entry, other):
             return False
     return True
+
+
+def leaves(nest):
+    """All that stands in a nest of tuples and is no tuple, each as often as it stands there."""
+    found = []
+    waiting = [nest]
+    while waiting != []:
+        value = waiting.pop()
+        if isinstance(value, tuple):
+            waiting.extend(value)
+        else:
+            found.append(value)
+    return found

@@ -3,7 +3,7 @@
 from math import gcd, isqrt
 
 from numberpapers.forms import discriminant, form_breach
-from numberpapers.kinds import are_numbers, is_between, is_from, is_number, is_told
+from numberpapers.kinds import are_numbers, is_between, is_from, is_number, is_told, leaves
 
 MOST = 10 ** 40
 MOST_HUGE = (10 ** 60) ** 5
@@ -187,12 +187,4 @@ def opposite(saying):
 
 def size_of(paper):
     """How many integers and strings stand in a nest of tuples."""
-    count = 0
-    waiting = [paper]
-    while waiting != []:
-        value = waiting.pop()
-        if isinstance(value, tuple):
-            waiting.extend(value)
-        elif is_number(value) or isinstance(value, str):
-            count += 1
-    return count
+    return len([value for value in leaves(paper) if is_number(value) or isinstance(value, str)])

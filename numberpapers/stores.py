@@ -145,6 +145,11 @@ def joined(one, other):
     """The store of the primes of two stores."""
     check_store(one)
     check_store(other)
+    return surely_joined(one, other)
+
+
+def surely_joined(one, other):
+    """The same for what are surely stores."""
     found = {p: paper for p, paper in one}
     for p, paper in other:
         if p not in found or is_short_tree(paper) and not is_short_tree(found[p]):
@@ -155,6 +160,11 @@ def joined(one, other):
 def pruned(store, primes):
     """The pairs of these primes of a store, and of all primes that they see, and so on."""
     check_store(store)
+    return surely_pruned(store, primes)
+
+
+def surely_pruned(store, primes):
+    """The same for what is surely a store."""
     papers = {p: paper for p, paper in store}
     kept = {}
     for p in primes:

@@ -128,14 +128,10 @@ def is_unlike_told(f, n, row, roots):
     """Whether two values are the prime parts of n and all roots, none of which is that of a form alike to f."""
     if whole_breach(n, ("whole parts", n, row)) is not None:
         return False
-    D = discriminant(f)
-    for p, _, _ in row:
-        if euler(D, p) == -1:
-            return False
-    # So many there are, so that none is left out if they are unlike ones.
+    # So many there are if some square leaves the rest of D modulo each prime, and otherwise none.
     if not is_tuple(roots, 1 << max(0, len(row) - 1)):
         return False
-    form, least = reduced(f)[0], 0
+    D, form, least = discriminant(f), reduced(f)[0], 0
     for root in roots:
         if not is_tuple(root, 2) or not is_between(root[0], least, n) or not is_root_apart(form, D, n, root):
             return False

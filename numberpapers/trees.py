@@ -1,7 +1,7 @@
 """Trees of primes."""
 
 from numberpapers.errors import NotPrime, TooHard
-from numberpapers.kinds import is_between, is_from, is_number, is_tuple
+from numberpapers.kinds import is_between, is_from, is_number, is_tuple, leaves
 from numberpapers.powers import power, raised_upto
 from numberpapers.soft import SURE, TRIED, generator_or_witness, soft_links, witness_of_twelve
 from numberpapers.trials import divisor_from
@@ -102,12 +102,4 @@ def linked_rows(links):
 
 def entries(paper):
     """How many numbers stand in a nest of tuples."""
-    count = 0
-    waiting = [paper]
-    while waiting != []:
-        value = waiting.pop()
-        if isinstance(value, tuple):
-            waiting.extend(value)
-        elif is_number(value):
-            count += 1
-    return count
+    return len([value for value in leaves(paper) if is_number(value)])

@@ -284,6 +284,12 @@ class Endless(unittest.TestCase):  # [104] to [106]
                         if right_paper(paper):
                             self.figures(paper)
 
+    def test_the_range_of_the_root(self):
+        for r, wanted in ((0, True), (7, False), (-7, False), (49, False)):
+            self.assertIs(is_endless_paper(("root", (0, 1), 7, r, 0)), wanted)
+        for r, wanted in ((0, True), (27, False), (9, True), (18, True), (-9, False), (36, False)):
+            self.assertIs(is_endless_paper(("root", (0, 3), 3, r, 1)), wanted)
+
     def test_any_value(self):
         nest = ()
         for _ in range(60):

@@ -138,7 +138,8 @@ class Breaches(unittest.TestCase):  # [114]
             ((TWO, (3, ("tree", (3, 2, ((2, 1, (2, 1, ())),))))), ("form", 1)), ((TWO, (3, ("tree", (3, 2, ((2, 0, ("see", 2)),))))), ("form", 1)), ((TWO, (3, ("tree", (3, 2, ((2, 1001, ("see", 2)),))))), ("form", 1)), ((TWO, (3, ("tree", (3, 2, ((2, 1000, ("see", 2)),))))), ("paper", 1)),
             ((TWO, (17, ("part", 17, ((2, 4, 17, ("see", 2)),)))), ("form", 1)), ((TWO, (17, ("part", 17, ((2, 4, 1, ("see", 2)),)))), ("form", 1)), ((TWO, (17, ("part", 17, ((2, 4, 2, ("see", 2)),)))), ("paper", 1)), ((TWO, (17, ("part", 17, ((2, 3, 3, ("see", 2)),)))), ("paper", 1)),
             ((TWO, (17, ("part", 17, ()))), ("paper", 1)), ((TWO, (2, ("part", 2, ()))), ("sequence", 1)), (((2, ("part", 2, ())),), ("paper", 0)), (((10 ** 300 + 1, ("part", 10 ** 300 + 1, ())),), ("form", 0)), (((10 ** 300, ("part", 10 ** 300, ())),), ("paper", 0)),
-            ((TWO, THREE, lucas), "any"), ((TWO, THREE, (11, ("lucas", 11, 11, 3, ()))), ("form", 2)), ((TWO, THREE, (11, ("lucas", 11, 0, 0, ()))), ("form", 2)), ((TWO, THREE, (11, ("lucas", 11, 10, 10, ()))), ("paper", 2)), ((TWO, THREE, (11, ("lucas", 11, 1, True, ()))), ("form", 2)),
+            ((TWO, (3, ("part", 3, ((2, 1, 2, ("see", 2)),)))), None), ((TWO, (3, ("part", 3, ((2, 1, 3, ("see", 2)),)))), ("form", 1)), ((TWO, THREE, (11, ("lucas", 11, 10, 1, ()))), ("paper", 2)), ((TWO, THREE, (11, ("lucas", 11, 0, 10, ()))), ("paper", 2)),
+            ((TWO, THREE, (11, ("lucas", 11, 0, 11, ()))), ("form", 2)), ((TWO, THREE, (11, ("lucas", 11, -1, 1, ()))), ("form", 2)), ((TWO, THREE, lucas), "any"), ((TWO, THREE, (11, ("lucas", 11, 11, 3, ()))), ("form", 2)), ((TWO, THREE, (11, ("lucas", 11, 0, 0, ()))), ("form", 2)), ((TWO, THREE, (11, ("lucas", 11, 10, 10, ()))), ("paper", 2)), ((TWO, THREE, (11, ("lucas", 11, 1, True, ()))), ("form", 2)),
             (((7, ("tried", 7)), (5, None)), ("form", 1)), (((7, ("tried", 7)), (5, ("part", 5, ((2, 2, 2, ("see", 2)),)))), ("sequence", 1)), (((9, ("tree", (9, 2, ((2, 3, ("see", 2)),)))),), ("see", 0)), ((TWO, (9, ("tree", (9, 2, ((2, 3, ("see", 2)),))))), ("paper", 1)),
         ):
             self.check(value, wanted)
@@ -256,6 +257,15 @@ class Joined(unittest.TestCase):  # [116]
             self.assertEqual(joined(one, one), one)
             self.assertEqual(joined(one, ()), one)
             self.assertEqual(joined((), one), one)
+
+    def test_two_trees(self):
+        one, other = (((5, ("tree", (5, g, ((2, 2, (2, 1, ())),)))),) for g in (2, 3))
+        part = ((5, ("part", 5, ((2, 2, 2, ("tried", 2)),))),)
+        for a, b in ((one, other), (other, one), (one, part), (part, one), (part, other), (one, one)):
+            found = dict(joined(store_of(a), store_of(b)))
+            wanted = dict(store_of(b if a is part else a))[5]
+            self.assertEqual(found[5], wanted)
+            self.assertEqual(found[2], ("tree", (2, 1, ())))
 
     def test_errors(self):
         for value in ANY + ((TWO, TWO), (THREE,), ((4, ("tried", 4)),)):

@@ -254,6 +254,18 @@ class Told(unittest.TestCase):  # [83]
                     right = {value[0] for value in answers if is_told_paper(f, n, value)}
                     self.assertIn(right, ({"pair"}, {"no root"}, {"unlike"}))
 
+    def test_nearly_right_papers(self):
+        same, three, five = ((1, 0), (0, 1)), ("tried", 3), ("tried", 5)
+        for f, n, value, wanted in (
+            ((1, 0, 1), 9, ("pair", 3, 0), False), ((1, 0, 1), 25, ("pair", 0, 5), False), ((1, 0, 1), 25, ("pair", 3, -4), True), ((1, 0, 1), 1, ("pair", 0, -1), True), ((1, 0, 1), 13, ("no root", 3, three), False),
+            ((1, 0, 1), 21, ("no root", 7, ("tried", 7)), True), ((1, 0, 1), 5, ("no root", 5, five), False), ((1, 0, 1), 15, ("no root", 5, five), False), ((1, 0, 1), 15, ("no root", 3, three), True), ((1, 0, 1), 15, ("no root", 15, ("tried", 15)), False),
+            ((1, 0, 1), 9, ("no root", 3, three), True), ((1, 0, 1), 9, ("no root", 3, five), False), ((1, 0, 1), 1, ("no root", 3, three), False), ((2, 1, 3), 1, ("unlike", (), ((1, ((0, 1), (-1, 0))),)), False), ((2, 1, 3), 1, ("unlike", (), ((1, same),)), True),
+            ((2, 1, 3), 1, ("unlike", (), ((-1, ((1, 1), (0, 1))),)), False), ((2, 1, 3), 1, ("unlike", (), ((3, ((1, -1), (0, 1))),)), False), ((2, 2, 3), 1, ("unlike", (), ((0, same),)), True), ((2, 2, 3), 1, ("unlike", (), ((2, ((1, -1), (0, 1))),)), False),
+            ((1, 0, 5), 1, ("unlike", (), ((0, same),)), False), ((2, 2, 3), 1, ("unlike", (), ()), False), ((1, 0, 5), 11, ("unlike", ((11, 1, ("tried", 11)),), ((0, same),)), False),
+        ):
+            self.assertIs(right_told(f, n, value), wanted, (f, n, value))
+            self.assertIs(is_told_paper(f, n, value), wanted, (f, n, value))
+
     def test_a_root_that_is_missing_or_twice(self):
         f, n = (2, 2, 3), 3 * 7 * 23
         word, row, roots = told((1, 0, 5), n) if told((1, 0, 5), n)[0] == "unlike" else told(f, n)
