@@ -126,12 +126,19 @@ def is_rootless_told(f, p, value):
         inner, tree, depth = waiting.pop()
         inner, _ = without_power(inner, p)
         roots = roots_modulo(inner, p)
-        if not is_tuple(tree, len(roots)) or depth == MOST_DEPTH and len(roots) > 0:
+        if not are_pairs_of(roots, tree) or depth == MOST_DEPTH and len(roots) > 0:
             return False
-        for t, pair in zip(roots, tree):
-            if not is_tuple(pair, 2) or not is_same(pair[0], t):
-                return False
-            waiting.append((within(inner, t, p), pair[1], depth + 1))
+        waiting.extend([(within(inner, t, p), beyond, depth + 1) for t, beyond in tree])
+    return True
+
+
+def are_pairs_of(roots, value):
+    """Whether a value is a tuple of pairs that begin with just these roots."""
+    if not is_tuple(value, len(roots)):
+        return False
+    for t, pair in zip(roots, value):
+        if not is_tuple(pair, 2) or not is_same(pair[0], t):
+            return False
     return True
 
 

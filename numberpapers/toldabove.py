@@ -54,7 +54,8 @@ def pair_beside(f, letters, n):
         one = pair_sum(one, other)
         more, found = pairs_beyond((begin, begin + a - c, a), ahead, one, n, MOST_SORTS - count)
         count = count + more
-        if found is not None:
+        # The first one has the least numbers.
+        if pair is None:
             pair = found
         if count > MOST_SORTS:
             raise TooMany(MOST_SORTS)
@@ -67,12 +68,12 @@ def pair_sum(one, other):
 
 
 def pairs_beyond(form, one, other, n, most):
-    """How many sorts of values up to n there are between two pairs, with other itself, and one of them for n or None.
+    """How many sorts of values up to n there are between two pairs, with one itself, and one of them for n or None.
 
     The form has the values at one, at other, and, all three entries together, at their sum; the count stops above most.
     """
-    count = 1 if form[2] <= n else 0
-    pair = other if form[2] == n else None
+    count = 1 if form[0] <= n else 0
+    pair = one if form[0] == n else None
     waiting = [(form, one, other)]
     while waiting != [] and count <= most:
         (a, b, c), u, v = waiting.pop()
