@@ -4,9 +4,12 @@ import copy
 import importlib
 import inspect
 import itertools
+import pathlib
+import re
 import unittest
 
 from numberpapers.desk import Desk
+from numberpapers.digitnumbers import Digits
 from numberpapers.sayings import KINDS
 from numberpapers.squaresof import Squares
 from tests.judges import KNOWN, P, Q
@@ -288,3 +291,28 @@ class Interface(unittest.TestCase):
     def test_kinds(self):
         self.assertFalse(can_be_changed(KINDS))
         self.assertEqual(len(KINDS), 16)
+
+    def test_digits(self):
+        self.assertEqual(Digits.__module__, "numberpapers.digitnumbers")
+        one, other = Digits(row=TEN), Digits.of(base=10, n=54)
+        self.assertTrue(other == Digits(OTHER))
+        for name in ("plus", "minus", "times", "divided_by", "rest_by"):
+            self.assertIn(name, vars(Digits))
+            self.assertEqual(list(inspect.signature(getattr(Digits, name)).parameters), ["self", "other"])
+            self.assertTrue(getattr(one, name)(other=other) == getattr(one, name)(other))
+        self.assertEqual((one.row, one.base, one.number, len(one), list(one)), (TEN, 10, 321, 3, [1, 2, 3]))
+
+    def test_the_whole_interface(self):
+        document = pathlib.Path(__file__).resolve().parent.parent.parent / "shared" / "DOC.md"
+        if not document.exists():
+            self.skipTest("the document is not here")
+        text = document.read_text()
+        classes = {"errors", "digitnumbers", "squaresof", "desk"}
+        for part in text[text.index("# The interface"):].split("### numberpapers/")[1:]:
+            stem = part.split(".py")[0]
+            calls = {name: names for name, names in re.findall(r"`([a-z_]+)\(([^)]*)\)", part)}
+            self.assertIn(stem, set(CALLS) | classes)
+            for name, names in calls.items() if stem in CALLS else ():
+                self.assertEqual([word.strip().split("=")[0] for word in names.split(",")], list(CALLS[stem][name]), name)
+            if stem in CALLS:
+                self.assertEqual(set(calls), set(CALLS[stem]))

@@ -139,6 +139,16 @@ class Counts(unittest.TestCase):  # [93]
                     refused(self, TooMany, MOST, told_above, f, n)
                 else:
                     self.assertEqual(told_above(f, n)[0] == "pair", n in (1, -2), n)
+        # 4 k letters, and the values 1, 2 k twice, 4 k - 3 twice and greater ones; the same below 0.
+        k = 4999
+        f = (1, 0, -k * k - 1)
+        self.assertEqual(len(walk(f)[0]), 4 * k)
+        for n, word in ((1, "pair"), (2, "none"), (2 * k, "pair"), (4 * k - 4, "none"), (4 * k - 3, None), (4 * k, None), (10 ** 6, None)):
+            for signed in (n, -n):
+                if word is None:
+                    refused(self, TooMany, MOST, told_above, f, signed)
+                else:
+                    self.assertEqual(told_above(f, signed)[0], word)
         # 20,000 letters, and a sort more for 1 and for -1.
         f = (1, 0, -5000 ** 2 - 1)
         self.assertEqual(len(walk(f)[0]), 20000)
