@@ -201,6 +201,18 @@ class Stores(unittest.TestCase):  # [115]
         inner = ("tree", (11, 2, ((2, 1, (2, 1, ())), (5, 1, other[1]))))
         self.assertEqual(dict(self.check(((11, inner), (5, one))))[5][1][1], 3)
 
+    def test_two_trees_within_one(self):
+        # 683 - 1 is 2 * 11 * 31, and 5 divides both 11 - 1 and 31 - 1.
+        two, three = (2, 1, ()), (3, 2, ((2, 1, (2, 1, ())),))
+        for one, other in ((2, 3), (3, 2)):
+            five, beside = ((5, g, ((2, 2, two),)) for g in (one, other))
+            eleven, last = (11, 2, ((2, 1, two), (5, 1, five))), (31, 3, ((2, 1, two), (3, 1, three), (5, 1, beside)))
+            paper = ("tree", (683, 5, ((2, 1, two), (11, 1, eleven), (31, 1, last))))
+            self.assertEqual(dict(self.check(((683, paper),)))[5][1][1], one)
+            part = ("part", 683, ((11, 1, 5, ("part", 11, ((5, 1, 2, ("tree", beside)),))), (31, 1, 5, ("tree", last))))
+            self.assertEqual(dict(self.check(((683, part),)))[5][1][1], other)
+            self.assertEqual(dict(self.check(((683, part), (683, paper))))[683][0], "tree")
+
     def test_papers_that_are_wrong(self):
         fine = (7, ("tried", 7))
         for value in ANY:
