@@ -65,3 +65,85 @@ def great_claims():
     found += [("perfect", 2 ** 60 * (2 ** 61 - 1)), ("two squares", 5 ** 57), ("two squares", 7 ** 46), ("two squares", 7 ** 47), ("two squares", 2 ** 132)]
     found += [("circle", n, x, q) for n in (1, 2, 12, 101, 300) for x in (-1000, 1000, 2) for q in (p, 2 ** 61 - 1, 601, 10 ** 40, 10 ** 9 + 7)]
     return found
+
+
+def some_number(source, digits):
+    return source.randrange(1, 10 ** source.randrange(1, digits + 1))
+
+
+def some_modulus(source):
+    """A number from 2 on: small, great, or great with small primes."""
+    if source.random() < .5:
+        return 1 + some_number(source, source.choice((3, 6, 12)))
+    n, most = 2, 10 ** source.randrange(1, 36)
+    while n < most:
+        n *= source.choice((2, 2, 2, 3, 3, 5, 7, 11, 13, 17, 101, 10007))
+    return n
+
+
+def some_whole(source):
+    n, row = some_number(source, 6), []
+    left = n
+    for p in range(2, 1000):
+        e = 0
+        while left % p == 0:
+            left, e = left // p, e + 1
+        row += [(p, e)] if e else []
+    row += [(left, 1)] if left > 1 else []
+    if row and source.random() < .4:
+        at = source.randrange(len(row))
+        row[at] = (row[at][0] + source.choice((0, 1, -1)), row[at][1] + source.choice((0, 1, -1)))
+    if len(row) > 1 and source.random() < .3:
+        (p, e), (q, f) = row[:2]
+        row = sorted(row[2:] + [(p ** e * q ** f, 1)]) if min(e, f) > 0 else row
+    return ("whole", n, tuple(row[::-1] if source.random() < .1 else row))
+
+
+def some_rests(source):
+    x, moduli = some_number(source, 12), [some_number(source, 4) for _ in range(source.randrange(1, 6))]
+    row = [(x % m, m) for m in moduli]
+    if source.random() < .5:
+        at = source.randrange(len(row))
+        row[at] = (source.randrange(row[at][1]), row[at][1])
+    return ("rests", tuple(row))
+
+
+def some_tells(source):
+    while True:
+        a, c = (some_number(source, source.choice((2, 6, 12))) for _ in range(2))
+        b = source.randrange(-2 * a, 2 * a + 1)
+        x, y = source.randrange(-9, 10), source.randrange(-9, 10)
+        n = source.choice((some_number(source, 6), a * x * x + b * x * y + c * y * y))
+        D = b * b - 4 * a * c
+        if D < 0 < n and math.gcd(n, 2 * D) == 1:
+            return ("tells", (a, b, c), n)
+
+
+def some_circle(source):
+    x, p = source.randrange(-1000, 1001), 1 + some_number(source, source.choice((1, 2, 6)))
+    orders = [n for n in range(1, 60) if pow(x, n, p) == 1]
+    return ("circle", orders[0] if orders and source.random() < .5 else source.randrange(1, 60), x, p)
+
+
+def drawn_claim(source, kind):
+    """Some claim of a kind."""
+    n = some_modulus(source)
+    a, b = source.randrange(n), source.randrange(n)
+    if kind in ("whole", "rests", "tells"):
+        return {"whole": some_whole, "rests": some_rests, "tells": some_tells}[kind](source)
+    if kind == "common":
+        one, other = (some_number(source, 12) * source.choice((1, -1, 0)) for _ in range(2))
+        g = math.gcd(one, other)
+        return (kind, one, other, source.choice((g, g, -g, 2 * g, 1, 0)))
+    if kind == "power":
+        a, b = (x if math.gcd(x, n) == 1 else n - 1 for x in (a, b))
+        return (kind, a, source.choice((b, pow(a, some_number(source, 6), n))), n)
+    if kind == "minus one":
+        d = source.choice((some_number(source, 4), some_number(source, 2) ** 2 + 1)) + 1
+        return (kind, d if math.isqrt(d) ** 2 != d else d + 1)
+    return {
+        "prime": (kind, source.choice((n, some_number(source, 40)))), "order": (kind, a, n, source.choice((some_number(source, 10), 1, 2, 12, 60))), "root": (kind, a, n), "rooted": (kind, n),
+        "square": (kind, source.choice((a, a * a % n)), n), "two squares": (kind, n), "four squares": (kind, n), "perfect": (kind, n),
+        "circle": some_circle(source),
+        "round": (kind, some_number(source, 5), source.choice((some_number(source, 6), 60, 24, 1500))),
+    }[kind]

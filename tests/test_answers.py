@@ -15,7 +15,7 @@ from tests.hard import CASES, HARD, HARD_PAPER, HARDER, HARDER_PAPER
 from tests.helpers import ANY, STRANGE, changed, differs, refused, some
 from tests.judges import KNOWN, P, Q, R, TOO_HARD, WRONG_KNOWN, told_by, tried
 from tests.primes import PRIMES, is_prime, leftover, passes
-from tests.saidcases import great_claims, small_claims
+from tests.saidcases import drawn_claim, great_claims, small_claims
 from tests.sayingjudges import claim_wrong, right
 from tests.test_fibonacci import is_told as is_round_told
 from tests.test_trees import DECEIVER, SOFT_DECEIVERS
@@ -81,6 +81,21 @@ class Answers(Checks, unittest.TestCase):  # [112]
                 self.assertTrue(self.may_refuse(claim, error), (claim, error.limit))
                 counts[claim[0]] = counts.get(claim[0], 0) + 1
         self.assertLess(sum(counts.values()), 120)
+
+    def test_drawn_claims(self):
+        source, refusals = some(797), 0
+        for kind in KINDS:
+            words = set()
+            for _ in range(250):
+                claim = drawn_claim(source, kind)
+                self.assertIsNone(claim_wrong(claim))
+                try:
+                    words.add(self.check(claim))
+                except (TooHard, TooMany):
+                    refusals += 1
+            if kind not in ("four squares", "perfect"):
+                self.assertEqual(words, {"is", "not"}, kind)
+        self.assertLess(refusals, 200)
 
     def may_refuse(self, claim, error):
         """Whether an error is due for a claim, nothing known; by the functions that [112] names."""
